@@ -170,6 +170,8 @@ func TestValue(t *testing.T) {
 		{[]api.Node{product("")}, 0, api.ErrUnknown},
 		{[]api.Node{cut(0, 1, 1, 1, 2), product("a"), product("c")}, 0, api.ErrOutside},
 		{[]api.Node{cut(0, 1, 1, 2, 1), product("c"), product("a")}, 0, api.ErrUnknown},
+		{[]api.Node{cut(0, 3, 1, 1, 2), waste(), product("a")}, 0, api.ErrOutside},
+		{[]api.Node{cut(0, 3, 1, 1, 2), waste(), waste(), cut(0, 2, 1, 3, 4), waste()}, 0, api.ErrInvalid},
 		{[]api.Node{cut(0, 2, 2, 1, 2), product("x"), product("y")}, 0, api.ErrRange},
 		{[]api.Node{cut(0, 2, 0, 1, 2), waste(), waste()}, 0, api.ErrRange},
 		{[]api.Node{cut(0, 0, 1, 1, 2), waste(), waste()}, 0, api.ErrRange},

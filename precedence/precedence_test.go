@@ -306,7 +306,7 @@ func checkLevels(t *testing.T, g precedence.Graph, cyclic bool) {
 func TestIs(t *testing.T) {
 	g := example()
 	for _, list := range [][]int{nil, {0, 1, 2}, {0, 1, 2, 3, 3}, {0, 1, 2, 2}, {0, 1, 2, 4}, {-1, 0, 1, 2}, {0, 1, 2, 3, 4}, {0, 1, 3, 2}, {math.MinInt, 0, 1, math.MaxInt}} {
-		if precedence.Is(g, list) {
+		if precedence.Is(g, list) || !slices.Equal(list, []int{0, 1, 3, 2}) && precedence.Is(graph(4), list) {
 			t.Errorf("Is(%v)", list)
 		}
 	}

@@ -323,7 +323,8 @@ func TestMemory(t *testing.T) {
 	if _, e := q.Free("a"); e != api.OK {
 		t.Errorf("Free: %d", e)
 	}
-	want := see(q)
+	now := see(q)
+	want := state{slices.Clone(now.blocks), slices.Clone(now.taken), slices.Clone(now.evidence), slices.Clone(now.events)}
 	got := see(q)
 	got.blocks[0].Name, got.taken[0].Name, got.evidence[0].Source, got.events[0].Name = "x", "x", "x", "x"
 	if !same(see(q), want) {

@@ -19,12 +19,7 @@ func Pieces(s api.Survey, list []api.Evidence, b api.Box) ([]api.Box, api.Errno)
 		return nil, api.ErrOutside
 	}
 	// Neither a bed nor a joint passes through a part, so that only its cells and flaws are to be examined.
-	hasFlaw := func(part api.Box) bool {
-		return slices.ContainsFunc(s.Flaws, func(f api.Flaw) bool {
-			overlaps, _ := prism.Overlaps(f.Prism, part)
-			return overlaps
-		})
-	}
+	hasFlaw := flawFinder(s)
 	var pieces []api.Box
 	for _, part := range partsOf(s, b) {
 		if known, _ := model.All(list, part, api.Sound); known && !hasFlaw(part) {
@@ -32,6 +27,25 @@ func Pieces(s api.Survey, list []api.Evidence, b api.Box) ([]api.Box, api.Errno)
 		}
 	}
 	return pieces, api.OK
+}
+
+// flawFinder returns the function that reports whether a flaw overlaps a box. Most flaws are far from most boxes, so that hulls are compared first.
+func flawFinder(s api.Survey) func(b api.Box) bool {
+	hulls := make([]api.Box, len(s.Flaws))
+	for i, f := range s.Flaws {
+		hulls[i], _ = prism.Hull(f.Prism)
+	}
+	return func(b api.Box) bool {
+		for i, f := range s.Flaws {
+			if !box.Overlap(hulls[i], b) {
+				continue
+			}
+			if overlaps, _ := prism.Overlaps(f.Prism, b); overlaps {
+				return true
+			}
+		}
+		return false
+	}
 }
 
 // partsOf returns the parts of a box inside the pit, by Z, then by Y, then by X.

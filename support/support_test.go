@@ -262,6 +262,16 @@ func TestHanging(t *testing.T) {
 	}
 }
 
+// P18.3: only the cells that touch a block from below count.
+func TestHangingAboveLowBlock(t *testing.T) {
+	s := example()
+	s.Benches = []api.Bench{{Name: "low", Lo: 5, Hi: 6}, {Name: "high", Lo: 6, Hi: 9}}
+	s.Blocks = []api.Block{block("a", 0, 0, 5, 10, 10, 6), block("b", 0, 0, 6, 10, 10, 9)}
+	if got, e := support.Hanging(s, []string{"a"}); got != "b" || e != api.OK {
+		t.Errorf("Hanging = %q, %d", got, e)
+	}
+}
+
 // P1, P18.3: each error, and which one comes first.
 func TestErrors(t *testing.T) {
 	bad := jointed()
