@@ -42,10 +42,7 @@ func provesCheaper(c Claim, names []string, numbers []int64) bool {
 // makeCheaper returns the prices with the greatest bound. If some left nodes have too few neighbours, these nodes and their neighbours get prices that are as great as possible, so that each node that cannot be matched adds its price to the bound.
 func makeCheaper(c Claim) ([]string, []int64) {
 	g := graphOf(c)
-	few, e := assign.Hall(g)
-	if e != api.OK {
-		few = nil
-	}
+	few, _ := assign.Hall(g) // none, if all left nodes can be matched
 	isFew := make([]bool, g.Left)
 	for _, l := range few {
 		isFew[l] = true

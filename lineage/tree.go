@@ -113,12 +113,8 @@ func isId(s string) bool {
 	return len(s) <= maxId && lexer.Name(parts[0]) && !slices.ContainsFunc(parts[1:], func(s string) bool { return !isNumber(s) })
 }
 
-// isPlaced reports whether a piece has a valid box and the right pose.
+// isPlaced reports whether a piece has a valid box and the right pose. (Place refuses the sizes and places of other boxes.)
 func isPlaced(p api.Piece) bool {
-	size := box.Size(p.Box)
-	if box.Check(p.Box) != api.OK || max(size.X, size.Y, size.Z) > api.MaxCoord {
-		return false
-	}
 	right, e := orient.Place(p.Pose.Turn, sizeOf(p), p.Box.Min)
 	return e == api.OK && right == p.Pose
 }
