@@ -26,6 +26,9 @@ func TestEdges(t *testing.T) {
 	if i, k, e := anchor.Clash(v(1, 1, 1), nil, 1, 1); i != 0 || k != 0 || e != api.ErrNone {
 		t.Errorf("Clash = %d, %d, %d", i, k, e)
 	}
+	if i, k, e := anchor.Clash(v(1, 1, 1), nil, 0, 1); i != 0 || k != 0 || e != api.ErrInvalid {
+		t.Errorf("Clash = %d, %d, %d", i, k, e)
+	}
 	n, e := anchor.Needed(5, anchor.Rule{})
 	m, f := anchor.Needed(-5, least)
 	if n != 0 || m != 0 || e != api.ErrInvalid || f != api.ErrRange {

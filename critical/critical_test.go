@@ -135,10 +135,10 @@ func TestErrors(t *testing.T) {
 	if n, e := critical.Chain(many); n != 16 || e != api.OK {
 		t.Errorf("Chain = %d, %d", n, e)
 	}
-	_, e1 := critical.Load(nil, jobs(), "?")
+	n, e1 := critical.Load(nil, jobs(), "?")
 	_, e2 := critical.Best(nil, jobs())
 	path, e3 := critical.Path(nil, jobs(), nil)
-	if e1 != api.ErrUnknown || e2 != api.ErrUnknown || e3 != api.ErrUnknown || path != nil {
+	if e1 != api.ErrUnknown || e2 != api.ErrUnknown || e3 != api.ErrUnknown || path != nil || n != 0 {
 		t.Errorf("%d, %d, %d", e1, e2, e3)
 	}
 	if n, e := critical.Load(append(machines(), api.Machine{Name: "c", Work: "carve"}), jobs(), "carve"); n != 0 || e != api.ErrNone {

@@ -152,10 +152,9 @@ func (p *plan) rest(job int) int {
 	return sum
 }
 
-// leaveFew leaves, for each kind of work, only as many machines as there are steps: those with the least setups. A schedule that uses others would not become longer with them.
+// leaveFew leaves, for each kind of work, at most as many machines as there are steps: then each step may have its own one, so that no setup matters.
 func (p *plan) leaveFew(steps int) {
 	for work, doers := range p.doers {
-		slices.SortStableFunc(doers, func(a, b int) int { return cmp.Compare(p.machines[a].Setup, p.machines[b].Setup) })
 		p.doers[work] = doers[:min(steps, len(doers))]
 	}
 }

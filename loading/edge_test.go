@@ -24,6 +24,9 @@ func TestEdges(t *testing.T) {
 	if e := loading.Check(x, nil); e != api.OK {
 		t.Errorf("Check = %d", e)
 	}
+	if front, rear, e := loading.Moments(lorry(), loading.Trip{}, 1); front != 0 || rear != 0 || e != api.ErrRange {
+		t.Errorf("Moments = %d, %d, %d", front, rear, e)
+	}
 	var names []string
 	for i := range loading.MaxCargo {
 		names = append(names, "s"+strconv.Itoa(i))

@@ -24,6 +24,9 @@ func TestEdges(t *testing.T) {
 	if rests, e := offcut.Rest(rem(id, 9, 9, 9), want("w", 9, 9, 5), 0); len(rests) != 1 || rests[0].Id != id+"c" || e != api.OK {
 		t.Errorf("Rest = %v, %d", rests, e)
 	}
+	if i, e := offcut.Best([]api.Remnant{rem("R", 9, 9, 9)}, want("w", 1, 1, 1), 0); i != 0 || e != api.ErrName {
+		t.Errorf("Best = %d, %d", i, e)
+	}
 	if n, e := offcut.Volume([]api.Remnant{rem("R", 9, 9, 9)}); n != 0 || e != api.ErrName {
 		t.Errorf("Volume = %d, %d", n, e)
 	}

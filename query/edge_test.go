@@ -36,6 +36,19 @@ func TestEdges(t *testing.T) {
 			t.Errorf("Rewrite over %d tables: %d nodes, %d", n, len(got), e)
 		}
 	}
+	// With a Count above it, the rewritten query has exactly as many nodes as there may be.
+	counted := []node{{Kind: query.Count, Left: 1}}
+	for _, n := range wide(50) {
+		for _, part := range []*int{&n.Left, &n.Right, &n.Test} {
+			if *part > 0 {
+				*part++
+			}
+		}
+		counted = append(counted, n)
+	}
+	if got, e := query.Rewrite(tables(), counted); len(got) != query.MaxParts || e != api.OK {
+		t.Errorf("Rewrite: %d nodes, %d", len(got), e)
+	}
 	q := []node{{Kind: query.Count, Left: 1}}
 	for range 99 {
 		q = append(q, node{Kind: query.Union, Left: len(q) + 1, Right: len(q) + 2}, from)

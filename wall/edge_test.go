@@ -57,12 +57,12 @@ func TestGreatLayouts(t *testing.T) {
 	for i, c := range []struct {
 		list []int
 		want bool
-	}{{[]int{9500, 9500}, true}, {[]int{20000}, true}, {[]int{9500, 20000}, false}, {[]int{19000, 20000}, false}, {[]int{20000, 20000}, false}, {[]int{19000, 1}, false}} {
+	}{{[]int{9500, 9500}, true}, {[]int{20000}, true}, {[]int{9500, 20000}, false}, {[]int{19000, 20000}, false}, {[]int{20000, 20000}, false}, {[]int{19000, 1}, false}, {[]int{9500, 19000, 1}, false}} {
 		if got := wall.Laid(20000, 1000, 0, sizes, nil, c.list); got != c.want {
 			t.Errorf("Laid %d = %v", i, got)
 		}
 	}
-	if reach, e := wall.Reach(20000, 1000, 0, []int{9500, 19000}, nil); !slices.Equal(reach, []int{0, 10500}) || e != api.OK {
+	if reach, e := wall.Reach(20000, 1000, 0, []int{9500, 9600, 19000}, nil); !slices.Equal(reach, []int{0, 10500, 10600}) || e != api.OK {
 		t.Errorf("Reach = %v, %d", reach, e)
 	}
 }
