@@ -8,7 +8,7 @@ type turn struct {
 	signs [3]int
 }
 
-// turns has the turns by their numbers. It is made at the start.
+// turns has the turns by their numbers. It is made at the start, and stays beside turnOf, which decides what the turns are.
 var turns [Turns]turn
 
 func init() {
@@ -30,6 +30,16 @@ func init() {
 	add([3]int{2, 1, 0}, odd)
 }
 
+// turnOf returns the turn with a number.
+func turnOf(n int) turn {
+	axes := [6][3]int{{0, 1, 2}, {0, 2, 1}, {1, 0, 2}, {1, 2, 0}, {2, 0, 1}, {2, 1, 0}}
+	parities := [6]int{1, -1, -1, 1, 1, -1}
+	firstSigns := [4][2]int{{1, 1}, {1, -1}, {-1, 1}, {-1, -1}}
+	r, s := firstSigns[n%4][0], firstSigns[n%4][1]
+	// The last sign follows from the others, since right-handedness is preserved.
+	return turn{axes[n/4], [3]int{r, s, parities[n/4] * r * s}}
+}
+
 func (t turn) image(p api.Vec) api.Vec {
 	from := [3]int{p.X, p.Y, p.Z}
 	return api.Vec{X: t.signs[0] * from[t.axes[0]], Y: t.signs[1] * from[t.axes[1]], Z: t.signs[2] * from[t.axes[2]]}
@@ -42,7 +52,8 @@ func (t turn) size(s api.Vec) api.Vec {
 
 // boxImage returns the image of a box under a pose, whatever its coordinates are.
 func boxImage(p api.Pose, b api.Box) api.Box {
-	from, to := add(turns[p.Turn].image(b.Min), p.Shift), add(turns[p.Turn].image(b.Max), p.Shift)
+	t := turnOf(p.Turn)
+	from, to := add(t.image(b.Min), p.Shift), add(t.image(b.Max), p.Shift)
 	return api.Box{
 		Min: api.Vec{X: min(from.X, to.X), Y: min(from.Y, to.Y), Z: min(from.Z, to.Z)},
 		Max: api.Vec{X: max(from.X, to.X), Y: max(from.Y, to.Y), Z: max(from.Z, to.Z)},
@@ -51,7 +62,7 @@ func boxImage(p api.Pose, b api.Box) api.Box {
 
 // compose returns the number of the turn that is b, and then a.
 func compose(a, b int) int {
-	first, then := turns[b], turns[a]
+	first, then := turnOf(b), turnOf(a)
 	var t turn
 	for i, axis := range then.axes {
 		t.axes[i] = first.axes[axis]
@@ -62,16 +73,17 @@ func compose(a, b int) int {
 
 func invert(n int) int {
 	var t turn
-	for i, axis := range turns[n].axes {
+	there := turnOf(n)
+	for i, axis := range there.axes {
 		t.axes[axis] = i
-		t.signs[axis] = turns[n].signs[i]
+		t.signs[axis] = there.signs[i]
 	}
 	return numberOf(t)
 }
 
 func numberOf(t turn) int {
-	for i, u := range turns {
-		if t == u {
+	for i := range Turns {
+		if t == turnOf(i) {
 			return i
 		}
 	}
